@@ -1,0 +1,1 @@
+"""Bymarks: where things go by numbers that nobody knows."""
