@@ -36,6 +36,19 @@ def lies_in(mark, one):
     return mark % one[0] == one[1]
 
 
+def lies_in_any(mark, classes):
+    """Tell whether a mark lies in one of the classes."""
+    for one in classes:
+        if lies_in(mark, one):
+            return True
+    return False
+
+
+def is_inside(one, other):
+    """Tell whether each mark of the one class lies in the other one; whether they are classes is not looked at."""
+    return one[0] % other[0] == 0 and lies_in(one[1], other)
+
+
 def have_common(one, other):
     """Tell whether some mark lies in both classes."""
     return (one[1] - other[1]) % gcd(one[0], other[0]) == 0
@@ -85,17 +98,22 @@ def is_within(one, other):
     """Tell whether each mark of the one class lies in the other one."""
     check_class(one)
     check_class(other)
-    return one[0] % other[0] == 0 and lies_in(one[1], other)
+    return is_inside(one, other)
+
+
+def least_left(within, classes):
+    """Return the least mark of the class within that lies in none of the classes, or None; nothing is checked."""
+    modulus, remainder = within
+    # Classes that take 2 ** n marks in a row, n being their number, take all of them.
+    for step in range(1 << len(classes)):
+        mark = remainder + step * modulus
+        if not lies_in_any(mark, classes):
+            return mark
+    return None
 
 
 def left_out(within, classes):
     """Return the least mark of the class within that lies in none of the classes, or None."""
     check_class(within)
     check_classes(classes, MOST_TO_LEAVE)
-    modulus, remainder = within
-    # Classes that take 2 ** n marks in a row, n being their number, take all of them.
-    for step in range(1 << len(classes)):
-        mark = remainder + step * modulus
-        if not any([lies_in(mark, one) for one in classes]):
-            return mark
-    return None
+    return least_left(within, classes)

@@ -1,4 +1,6 @@
-"""Integers: which values are some, inverses by a modulus, and prime factors."""
+"""Integers: which values are some, common multiples, inverses by a modulus, and prime factors."""
+
+from math import lcm
 
 
 def is_integer(value):
@@ -9,6 +11,14 @@ def is_integer(value):
 def is_natural(value):
     """Tell whether the value is an integer from 0 on."""
     return is_integer(value) and value >= 0
+
+
+def common_multiple(numbers):
+    """Return the least common multiple of a list of integers from 1 on, 1 if there are none."""
+    found = 1
+    for number in numbers:
+        found = lcm(found, number)
+    return found
 
 
 def inverse(number, modulus):

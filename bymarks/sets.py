@@ -1,8 +1,9 @@
 """Sets of marks, told by terms: all, none, classes, and not, and, or of other terms."""
 
 from bymarks.classes import is_class, lies_in
-from bymarks.errors import InvalidMark, InvalidNumber, InvalidTerm, TooMany
+from bymarks.errors import InvalidNumber, InvalidTerm, TooMany
 from bymarks.integers import is_natural, prime_factors
+from bymarks.marks import check_mark
 from bymarks.tallies import below_of, class_table, full_table, least_of, least_period, nth_of, share_of, tally_of
 
 SIZES = {"all": 1, "none": 1, "class": 3, "not": 2, "and": 3, "or": 3}
@@ -69,8 +70,7 @@ def holds(term, mark):
 def term_has(term, mark):
     """Tell whether the mark lies in the set."""
     check_term(term)
-    if not is_natural(mark):
-        raise InvalidMark("a mark is an integer from 0 on")
+    check_mark(mark)
     return holds(term, mark)
 
 

@@ -7,6 +7,8 @@ those classes (modulus, remainder) in which it lies is 1 if the mark is in the s
 from math import gcd, lcm
 
 from bymarks.classes import common_class
+from bymarks.integers import common_multiple
+from bymarks.shares import fraction
 
 
 def class_table(at, count):
@@ -56,10 +58,7 @@ def tally_of(classes, table):
 
 def common_period(tally):
     """Return the least common multiple of the moduli of the tally: the set repeats itself by it."""
-    period = 1
-    for part in tally:
-        period = lcm(period, part[1])
-    return period
+    return common_multiple([modulus for _, modulus, _ in tally])
 
 
 def count_of(tally, period):
@@ -70,9 +69,7 @@ def count_of(tally, period):
 def share_of(tally):
     """Return the share of the set as a fraction."""
     period = common_period(tally)
-    count = count_of(tally, period)
-    shared = gcd(count, period)
-    return count // shared, period // shared
+    return fraction(count_of(tally, period), period)
 
 
 def below_of(tally, bound):

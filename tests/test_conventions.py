@@ -1,58 +1,149 @@
-"""Point [2] for the functions there are: signatures, kinds of values, arguments that stay, time."""
+"""Point [2] for the functions there are: signatures, kinds of values, arguments that stay, new objects, names."""
 
 import copy
 import inspect
-import time
 import unittest
-from math import gcd
 
-from bymarks import classes, sets
-from bymarks.classes import is_within, left_out, meet, meet_all
-from bymarks.sets import (
-    check_term, classes_in, term_below, term_has, term_least, term_nth, term_outside, term_parting, term_period,
-    term_share,
-)
-from tests.samples import exclusive, fold, fold_flat, some_terms, term_of_size
+from bymarks import chains, classes, counts, deals, floors, patterns, rules, runs, sets
+from bymarks.chains import ends, own_marks, ring_share, starved, walk, ways
+from bymarks.classes import left_out, meet, meet_all
+from bymarks.counts import below, common_share, nth
+from bymarks.deals import form, place_of, plain, split, uses
+from bymarks.errors import InvalidMark
+from bymarks.floors import sums
+from bymarks.marks import check_mark, check_marks
+from bymarks.names import is_name
+from bymarks.patterns import below_pattern, nth_pattern, pattern_of
+from bymarks.rules import names_in, needs, reaches, rule_flow, rule_moved, rule_parting, rule_shares
+from bymarks.runs import agreement, flow, parting, share, together
+from bymarks.sets import classes_in, term_below, term_has, term_least, term_period, term_share
+from tests.samples import some_terms, wrong_numbers
+from tests.samples_chains import some_chains
+from tests.samples_rules import right_names, some_pairs, wrong_names
 
 SIGNATURES = {
-    classes: ["check_class(value)", "meet(one, other)", "meet_all(classes)", "is_within(one, other)",
-              "left_out(within, classes)"],
-    sets: ["check_term(term)", "term_has(term, mark)", "classes_in(term)", "term_least(term)",
-           "term_parting(one, other)", "term_outside(one, other)", "term_share(term)", "term_below(term, n)",
-           "term_nth(term, k)", "term_period(term)"],
+    classes: """check_class(value) meet(one,other) meet_all(classes) is_within(one,other) left_out(within,classes)""",
+    sets: """check_term(term) term_has(term,mark) classes_in(term) term_least(term) term_parting(one,other)
+        term_outside(one,other) term_share(term) term_below(term,n) term_nth(term,k) term_period(term)""",
+    rules: """check_rule(rule) names_in(rule) place_by(rule,marks) rule_parting(one,other) reaches(rule,place)
+        needs(rule) rule_shares(rule) rule_flow(one,other) rule_moved(one,other)""",
+    chains: """check_chain(chain) walk(chain,begin,marks) ways(chain,begin) ends(chain,begin) ring_share(chain,begin)
+        starved(chain,begin) own_marks(chain,begin)""",
+    deals: """check_deal(deal) place_of(deal,mark) plain(modulus) split(modulus,many) linear(base,many) form(deal)
+        uses(deal)""",
+    runs: """share(deal,place) together(deals) agreement(deals) parting(deals) flow(one,other,start,end)""",
+    floors: """sums(count,step,begin,by)""",
+    counts: """below(families,bound) nth(families,number) common_share(families)""",
+    patterns: """pattern_of(deals,mark) patterns(deals) below_pattern(deals,pattern,bound)
+        nth_pattern(deals,pattern,number)""",
 }
-LIMIT = 5
+LINKS = {"a": ("h", 4, ("b", "x", "b", "x")), "b": ("h", 2, ("y", "z"))}
+TWO = ("split", "h", 2, (("place", 0), ("if", "g", 9, 4, ("place", 1), ("place", 7))))
+DEALS = [plain(4), plain(6), split(4, 2)]
+SOME = (10, ((0, 3), (5, 7)))
 
 
-def coprime_moduli(many, greatest):
-    """So many great moduli of which no two have a prime in common."""
-    found = []
-    while len(found) < many:
-        if all(gcd(greatest, modulus) == 1 for modulus in found):
-            found.append(greatest)
-        greatest -= 1
+def kinds(value):
+    """The kinds of a value and of all in it, as a nested list."""
+    if isinstance(value, dict):
+        return [dict, [[kinds(key), kinds(told)] for key, told in value.items()]]
+    if isinstance(value, (list, tuple)):
+        return [type(value), [kinds(item) for item in value]]
+    return type(value)
+
+
+def containers(value):
+    """All lists and dicts in a value."""
+    found = [value] if isinstance(value, (list, dict)) else []
+    inner = list(value) + list(value.values()) if isinstance(value, dict) else value
+    if isinstance(inner, (list, tuple)):
+        found += [more for item in inner for more in containers(item)]
     return found
+
+
+def spoil(value):
+    """Change all lists and dicts in a value."""
+    for one in containers(value):
+        if isinstance(one, dict):
+            one["more"] = 1
+        else:
+            one.append("more")
+
+
+def calls():
+    """Calls that return lists or dicts, with functions and arguments."""
+    found = [(classes_in, (term,)) for term in some_terms(13, 20)]
+    found += [(function, pair) for pair in some_pairs(14, 20) for function in (rule_parting, rule_flow)]
+    found += [(function, pair[:1]) for pair in some_pairs(15, 20) for function in (names_in, needs, rule_shares)]
+    found += [(reaches, (pair[0], place)) for pair in some_pairs(16, 20) for place in range(3)]
+    found += [(function, told) for told in some_chains(17, 20) for function in (ways, ends, starved, own_marks)]
+    return found + [(uses, (split(7, 3),)), (patterns.patterns, (DEALS,))]
 
 
 class TestInterface(unittest.TestCase):
 
     def test_signatures(self):
         for module, listed in SIGNATURES.items():
-            for line in listed:
+            for line in listed.split():
                 function = getattr(module, line.partition("(")[0])
-                self.assertEqual(function.__name__ + str(inspect.signature(function)), line)
+                self.assertEqual(function.__name__ + str(inspect.signature(function)), line.replace(",", ", "))
                 self.assertEqual(function.__module__, module.__name__)
 
-    def test_kinds_of_answers(self):
+    def test_checks_return_none(self):
+        for function, value in [(classes.check_class, (4, 1)), (sets.check_term, ("all",)), (rules.check_rule, TWO),
+                                (chains.check_chain, LINKS), (deals.check_deal, DEALS[2])]:
+            self.assertIsNone(function(value))
+
+    def test_kinds_of_classes_and_terms(self):
         self.assertIs(type(meet((4, 1), (6, 3))), tuple)
         self.assertIs(type(meet_all([(4, 1)])[1]), tuple)
         for term in some_terms(11, 100):
             self.assertIs(type(classes_in(term)), list)
-            self.assertIs(type(term_share(term)), tuple)
-            self.assertEqual([type(part) for part in term_share(term)], [int, int])
+            self.assertEqual(kinds(term_share(term)), [tuple, [int, int]])
             self.assertIs(type(term_below(term, 7)), int)
             self.assertIs(type(term_period(term)), int)
             self.assertIs(type(term_has(term, 3)), bool)
+
+    def test_kinds_of_rules_and_chains(self):
+        pair = [tuple, [int, int]]
+        for found in (rule_moved(TWO, TWO), ring_share(LINKS, "a")):
+            self.assertEqual(kinds(found), pair)
+        self.assertEqual(kinds(rule_shares(TWO)), [dict, [[int, pair]] * 3])
+        self.assertEqual(kinds(rule_flow(TWO, TWO)), [dict, [[pair, pair]] * 3])
+        self.assertEqual(kinds(needs(TWO)), [dict, [[str, [tuple, [[dict, [[str, int]] * 2], int]]]] * 2])
+        self.assertEqual(kinds(reaches(TWO, 7)), [dict, [[str, int]] * 2])
+        steps = [tuple, [[tuple, [[tuple, [str, int]]]], str]]
+        self.assertEqual(kinds(walk(LINKS, "b", {"h": 1})), steps)
+        self.assertEqual(kinds(ways(LINKS, "b")), [list, [[tuple, [steps, [dict, [[str, pair]]]]]] * 2])
+        self.assertEqual(kinds(ends(LINKS, "b")), [dict, [[str, pair]] * 2])
+        rows = [list, [[tuple, [[tuple, [[tuple, [str, int]]]], int]]] * 2]
+        self.assertEqual(kinds(starved(LINKS, "a")), [dict, [[[tuple, [str, int]], rows]]])
+        self.assertEqual(kinds(own_marks(LINKS, "a")), [list, [str]])
+
+    def test_kinds_of_deals(self):
+        pair = [tuple, [int, int]]
+        for deal in (form(DEALS[2]), split(4, 2)):
+            self.assertEqual(kinds(deal), [tuple, [int, [tuple, [pair, pair]]]])
+        self.assertEqual(kinds(uses(plain(3))), [list, [[tuple, [int, int, int]]]])
+        self.assertIs(type(place_of(plain(3), 7)), int)
+        self.assertEqual(kinds(together(DEALS[:2])), [tuple, [int, [tuple, [pair]]]])
+        self.assertEqual(kinds(agreement(DEALS)), [tuple, [pair, int]])
+        self.assertEqual(kinds(flow(DEALS[0], DEALS[1], 3, 3)), [tuple, [pair, int]])
+        self.assertEqual([type(parting(DEALS)), kinds(share(DEALS[0], 3))], [int, pair])
+
+    def test_kinds_of_counts_and_patterns(self):
+        self.assertEqual(kinds(sums(3, 4, 5, 6)), [tuple, [int, int, int]])
+        self.assertEqual([type(below([SOME], 3)), type(nth([SOME], 3))], [int, int])
+        self.assertEqual(kinds(common_share([SOME])), [tuple, [int, int]])
+        self.assertEqual(kinds(pattern_of(DEALS, 5)), [tuple, [[tuple, [int]], [tuple, [int, int]]]])
+        found = patterns.patterns(DEALS)
+        self.assertEqual(kinds(found)[0], list)
+        self.assertEqual(kinds(found[0]), [tuple, [[tuple, [[tuple, [int] * 3]]], [tuple, [int, int]], int]])
+        self.assertEqual(type(below_pattern(DEALS, ((0, 1, 2),), 5)), int)
+        self.assertEqual(type(nth_pattern(DEALS, ((0, 1, 2),), 5)), int)
+
+
+class TestObjects(unittest.TestCase):
 
     def test_arguments_stay(self):
         given = [(4, 1), (9, 2), (6, 0), (4, 1)]
@@ -61,59 +152,46 @@ class TestInterface(unittest.TestCase):
             self.assertEqual(meet_all(given), ("bar", 0, 2))
             self.assertEqual(left_out((5, 2), given), 7)
             self.assertEqual(given, kept)
+        for function, arguments in calls():
+            kept = copy.deepcopy(arguments)
+            function(*arguments)
+            self.assertEqual(arguments, kept)
+
+    def test_answers_are_new(self):
+        for function, arguments in calls():
+            with self.subTest(f"{function.__name__}{arguments}"):
+                found = function(*arguments)
+                kept = copy.deepcopy(found)
+                parts = containers(found) + containers(arguments)
+                self.assertEqual(len({id(one) for one in parts}), len(parts))
+                spoil(found)
+                self.assertEqual(function(*copy.deepcopy(arguments)), kept)
 
     def test_equal_answers_to_equal_calls(self):
         for term in some_terms(12, 50):
             for function in (classes_in, term_least, term_share, term_period):
                 self.assertEqual(function(term), function(copy.deepcopy(term)))
+        for function, arguments in calls():
+            self.assertEqual(function(*arguments), function(*copy.deepcopy(arguments)))
 
 
-class TestTime(unittest.TestCase):
-    """Calls with the greatest inputs return within a few seconds."""
+class TestNamesAndMarks(unittest.TestCase):
 
-    def timed(self, function, *arguments):
-        begin = time.perf_counter()
-        found = function(*arguments)
-        self.assertLess(time.perf_counter() - begin, LIMIT, function.__name__)
-        return found
+    def test_names(self):
+        for name in right_names():
+            self.assertIs(is_name(name), True)
+        for wrong in wrong_names():
+            self.assertIs(is_name(wrong), False)
 
-    def test_classes(self):
-        great = 10 ** 301 - 1
-        whole = 10 ** 2999
-        for top in (great, whole):
-            same = [(top - 2 * k, 5) for k in range(40)]
-            self.assertEqual(self.timed(meet_all, same)[0], "class")
-            self.assertEqual(self.timed(meet_all, [(top, 0)] * 39 + [(top, 1)]), ("bar", 0, 39))
-            self.timed(meet, (top, 5), (top - 2, 5))
-            self.timed(is_within, (top, 5), (top - 2, 5))
-            self.timed(left_out, (top, 5), [(2 ** k, 0) for k in range(1, 11)])
-            self.timed(left_out, (top, 5), [(top * 2 ** k, 5 + top * (2 ** (k - 1) - 1)) for k in range(1, 11)])
-
-    def test_terms_of_sixty(self):
-        term = term_of_size(60)
-        for function in (check_term, classes_in, term_least, term_share, term_period):
-            self.timed(function, term)
-        self.timed(term_has, term, 10 ** 301 - 1)
-
-    def test_eight_classes(self):
-        parts = [("class", modulus, modulus // 3) for modulus in coprime_moduli(8, 10 ** 60)]
-        pairs = [("or", parts[k], parts[k + 1]) for k in range(0, 8, 2)]
-        mixed = fold("or", [exclusive(parts[k], parts[k + 1]) for k in range(0, 8, 2)])
-        for term in (fold_flat("or", parts), fold_flat("and", parts), fold_flat("and", pairs), mixed):
-            self.timed(term_least, term)
-            self.timed(term_share, term)
-            self.timed(term_parting, term, ("not", term))
-            self.timed(term_outside, term, parts[0])
-            for number in (0, 10 ** 301 - 1, 10 ** 2999):
-                below = self.timed(term_below, term, self.timed(term_nth, term, number))
-                self.assertEqual(below, number)
-
-    def test_period(self):
-        for moduli in [(2 ** 19, 3 ** 12, 5 ** 8, 7 ** 7, 11 ** 5), (999999, 999983, 720720, 510510, 2 ** 19)]:
-            parts = [("class", modulus, modulus // 7) for modulus in moduli]
-            self.timed(term_period, fold("or", parts))
-            self.timed(term_period, fold("or", [("not", part) for part in parts]))
-            self.timed(term_period, fold("and", parts))
+    def test_marks(self):
+        for mark in (0, 1, 10 ** 301 - 1):
+            self.assertIsNone(check_mark(mark))
+            self.assertIsNone(check_marks({"h": mark, "x": None}, ["h"]))
+        for wrong in wrong_numbers():
+            with self.assertRaises(InvalidMark):
+                check_mark(wrong)
+            with self.assertRaises(InvalidMark):
+                check_marks({"h": wrong}, ["h"])
 
 
 if __name__ == "__main__":

@@ -17,6 +17,31 @@ EXAMPLES = [
     >>> [term_share(either), term_nth(either, 10), term_outside(either, ('class', 6, 0))]
     [(2, 3), 15, 2]
     """,
+    """
+    >>> from bymarks.rules import rule_moved, rule_parting
+    >>> two = ('split', 'h', 2, (('place', 0), ('place', 1)))
+    >>> four = ('split', 'h', 4, (('place', 0), ('place', 1), ('place', 0), ('place', 2)))
+    >>> [rule_parting(two, four), rule_moved(two, four)]
+    [{'h': 3}, (1, 4)]
+    """,
+    """
+    >>> from bymarks.chains import own_marks, starved
+    >>> links = {'a': ('h', 4, ('b', 'x', 'b', 'x')), 'b': ('h', 2, ('y', 'z'))}
+    >>> [starved(links, 'a'), own_marks(links, 'a')]
+    [{('b', 1): [((('a', 0),), 0), ((('a', 2),), 0)]}, ['a']]
+    """,
+    """
+    >>> from bymarks.deals import linear, plain
+    >>> from bymarks.runs import agreement, parting
+    >>> [linear(4, 6), agreement([plain(4), plain(6)]), parting([plain(4), linear(4, 6)])]
+    [(8, ((0, 0), (6, -4))), ((1, 3), 0), 4]
+    """,
+    """
+    >>> from bymarks.deals import plain
+    >>> from bymarks.patterns import patterns
+    >>> patterns([plain(4), plain(6), plain(9)])
+    [(((0, 1, 2),), (1, 9), 0), (((0,), (1, 2)), (2, 9), 4), (((0,), (1,), (2,)), (4, 9), 6), (((0, 1), (2,)), (2, 9), 12)]
+    """,
 ]
 
 
