@@ -36,11 +36,12 @@ def is_partition(value, many):
     return value in partitions_of(many)
 
 
-def factor_of_merging(many):
-    """Return by which factor a partition counts for another one, of which it merges so many groups into one."""
+def factor_of_merging(choice):
+    """Return by which factor a partition counts for one whose groups it merges as this partition of them tells."""
     factor = 1
-    for k in range(1, many):
-        factor = -factor * k
+    for groups in choice:
+        for k in range(1, len(groups)):
+            factor = -factor * k
     return factor
 
 
@@ -55,10 +56,7 @@ def mergings(pattern):
     Where the deals in each group of a partition agree, a mark has this partition or one that merges groups of
     it. Marks that have just this one are counted by adding up, with the factors, how many there are of such.
     """
-    found = []
-    for choice in partitions_of(len(pattern)):
-        factor = 1
-        for groups in choice:
-            factor = factor * factor_of_merging(len(groups))
-        found.append((factor, tuple([merged(pattern, groups) for groups in choice])))
-    return found
+    return [
+        (factor_of_merging(choice), tuple([merged(pattern, groups) for groups in choice]))
+        for choice in partitions_of(len(pattern))
+    ]

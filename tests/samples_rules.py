@@ -136,7 +136,7 @@ def rule_within(classes, last=THERE, name="h"):
 def wrong_alone():
     """Values that are no rules, the wrong thing standing at the top of them."""
     found = other_values() + [
-        ["place", 1], ("place",), ("place", 1, 2), ("places", 1), ("Place", 1), (1, "place"), ("place", (1,)),
+        ["place", 1], ("place",), ("x",), ("rule",), ("place", 1, 2), ("places", 1), ("Place", 1), (1, "place"), ("place", (1,)),
         ("if", "h", 4, 1, HERE), ("if", "h", 4, 1, HERE, THERE, HERE), ["if", "h", 4, 1, HERE, THERE],
         ("if", "h", (4, 1), HERE, THERE), ("if", 4, 1, HERE, THERE), ("if",), ("h", "if", 4, 1, HERE, THERE),
         ("split", "h", 2), ("split", "h", 2, HERE, THERE), ["split", "h", 2, (HERE, THERE)], ("split", "h", 2, HERE),

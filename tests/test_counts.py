@@ -131,14 +131,12 @@ class TestGreat(unittest.TestCase):
 
     def test_shares_by_remainders(self):
         chance = random.Random(3)
-        for shared in (1, 12, 10 ** 20):
-            periods = [shared * chance.randrange(GREAT // shared) for _ in range(2)]
+        for shared in (1, 1, 1, 1, 12, 10 ** 20):
+            periods = [shared * chance.randrange(1, GREAT // shared) for _ in range(2)]
             one, other = [great_family(chance, period, 2) for period in periods]
-            share = Fraction(0)
             if gcd(*periods) == 1:
-                sizes = [sum(end - start for start, end in family[1]) for family in (one, other)]
-                share = Fraction(sizes[0], periods[0]) * Fraction(sizes[1], periods[1])
-                self.assertEqual(common_share([one, other]), fraction(share))
+                shares = [Fraction(*common_share([family])) for family in (one, other)]
+                self.assertEqual(common_share([one, other]), fraction(shares[0] * shares[1]))
             self.assertEqual(common_share([one, other]), common_share([other, one]))
 
     def test_nth_and_below_agree(self):
