@@ -4,7 +4,9 @@ import copy
 import inspect
 import unittest
 
-from bymarks import chains, classes, counts, deals, floors, patterns, rules, runs, sets
+from bymarks import (
+    chains, classes, counts, deals, desk, floors, needless, patterns, plans, rules, runs, search, seen, sets, texts,
+)
 from bymarks.chains import ends, own_marks, ring_share, starved, walk, ways
 from bymarks.classes import left_out, meet, meet_all
 from bymarks.counts import below, common_share, nth
@@ -17,9 +19,14 @@ from bymarks.patterns import below_pattern, nth_pattern, pattern_of
 from bymarks.rules import names_in, needs, reaches, rule_flow, rule_moved, rule_parting, rule_shares
 from bymarks.runs import agreement, flow, parting, share, together
 from bymarks.sets import classes_in, term_below, term_has, term_least, term_period, term_share
+from bymarks.search import judge, place_patterns, play, verdict, verdicts, wrong_below, wrong_share
+from bymarks.seen import first_wrong, known, told
+from bymarks.texts import paper_text, read_paper
 from tests.samples import some_terms, wrong_numbers
 from tests.samples_chains import some_chains
+from tests.samples_plans import BOTH, NEW, OLD, plan_of, some_plans
 from tests.samples_rules import right_names, some_pairs, wrong_names
+from tests.samples_texts import some_papers
 
 SIGNATURES = {
     classes: """check_class(value) meet(one,other) meet_all(classes) is_within(one,other) left_out(within,classes)""",
@@ -36,10 +43,21 @@ SIGNATURES = {
     counts: """below(families,bound) nth(families,number) common_share(families)""",
     patterns: """pattern_of(deals,mark) patterns(deals) below_pattern(deals,pattern,bound)
         nth_pattern(deals,pattern,number)""",
+    plans: """check_plan(plan)""",
+    search: """deeds(plan,mark,history) play(plan,mark,history) judge(plan,mark,history) place_patterns(plan)
+        verdict(plan) verdicts(plan) wrong_share(plan) wrong_below(plan,n)""",
+    needless: """without(plan,item) needless(plan) weakest(plan)""",
+    seen: """known(sightings) first_wrong(sightings) told(sightings,deal)""",
+    texts: """paper_text(entries) read_paper(text)""",
+    desk: """try_all(watch,deeds)""",
 }
 LINKS = {"a": ("h", 4, ("b", "x", "b", "x")), "b": ("h", 2, ("y", "z"))}
 TWO = ("split", "h", 2, (("place", 0), ("if", "g", 9, 4, ("place", 1), ("place", 7))))
 DEALS = [plain(4), plain(6), split(4, 2)]
+RIGHT = plan_of([OLD, BOTH, NEW])
+WRONG = plan_of([OLD, BOTH, NEW], lag=True)
+HISTORY = [("put", 0), ("read", 0), ("next",)]
+SIGHTINGS = [(plain(4), 3), (split(4, 2), 3)]
 SOME = (10, ((0, 3), (5, 7)))
 
 
@@ -77,6 +95,12 @@ def calls():
     found += [(function, pair[:1]) for pair in some_pairs(15, 20) for function in (names_in, needs, rule_shares)]
     found += [(reaches, (pair[0], place)) for pair in some_pairs(16, 20) for place in range(3)]
     found += [(function, told) for told in some_chains(17, 20) for function in (ways, ends, starved, own_marks)]
+    found += [(function, (plan,)) for plan in some_plans(18, 20) for function in (place_patterns, verdict, verdicts)]
+    found += [(function, (WRONG, 5, HISTORY)) for function in (search.deeds, play, judge)]
+    found += [(function, (RIGHT,)) for function in (needless.needless, needless.weakest)]
+    found += [(function, (SIGHTINGS,)) for function in (known, first_wrong)] + [(told, (SIGHTINGS, plain(5)))]
+    papers = some_papers(19, 20)
+    found += [(paper_text, (entries,)) for entries in papers] + [(read_paper, (paper_text(entries),)) for entries in papers]
     return found + [(uses, (split(7, 3),)), (patterns.patterns, (DEALS,))]
 
 
@@ -91,7 +115,7 @@ class TestInterface(unittest.TestCase):
 
     def test_checks_return_none(self):
         for function, value in [(classes.check_class, (4, 1)), (sets.check_term, ("all",)), (rules.check_rule, TWO),
-                                (chains.check_chain, LINKS), (deals.check_deal, DEALS[2])]:
+                                (chains.check_chain, LINKS), (deals.check_deal, DEALS[2]), (plans.check_plan, RIGHT)]:
             self.assertIsNone(function(value))
 
     def test_kinds_of_classes_and_terms(self):
@@ -141,6 +165,34 @@ class TestInterface(unittest.TestCase):
         self.assertEqual(kinds(found[0]), [tuple, [[tuple, [[tuple, [int] * 3]]], [tuple, [int, int]], int]])
         self.assertEqual(type(below_pattern(DEALS, ((0, 1, 2),), 5)), int)
         self.assertEqual(type(nth_pattern(DEALS, ((0, 1, 2),), 5)), int)
+
+    def test_kinds_of_histories(self):
+        deed = [tuple, [str, int]]
+        self.assertEqual(kinds(search.deeds(WRONG, 5, HISTORY)), [list, [deed] * 7 + [[tuple, [str]]]])
+        rows = play(WRONG, 5, HISTORY)
+        self.assertEqual(kinds(rows), [list, [
+            [tuple, [type(None), [tuple, [deed, [tuple, [str]]]]]], [tuple, [deed, [tuple, [deed, [tuple, [str]]]]]],
+            [tuple, [type(None), [tuple, [deed, [tuple, [str]]]]]]]])
+        self.assertIs(type(judge(WRONG, 5, HISTORY)), type(None))
+        self.assertEqual(kinds(judge(WRONG, 5, verdict(WRONG)[1])), [tuple, [int, str]])
+        group = [tuple, [int]]
+        self.assertEqual(kinds(place_patterns(RIGHT))[1][1], [tuple, [[tuple, [group, group]], int]])
+        self.assertEqual([kinds(verdict(WRONG))[0], [type(part) for part in verdict(WRONG)]], [tuple, [int, list, str]])
+        self.assertEqual([type(part) for part in verdicts(WRONG)[1]], [tuple, tuple, int, tuple])
+        self.assertEqual([type(part) for part in verdicts(WRONG)[1][3]], [list, str])
+        self.assertEqual([kinds(wrong_share(WRONG)), type(wrong_below(WRONG, 7))], [[tuple, [int, int]], int])
+        self.assertEqual(kinds(needless.without(RIGHT, ("put", 1, 0))), [tuple, [
+            kinds(RIGHT[0]), [tuple, [kinds(OLD), [tuple, [group, group, kinds((0, 1)), kinds(BOTH[3]), str]], kinds(NEW)]],
+            bool, bool]])
+
+    def test_kinds_of_sightings_and_papers(self):
+        self.assertEqual(kinds(known(SIGHTINGS)), [tuple, [int, [tuple, [int, int]]]])
+        self.assertEqual(kinds(told(SIGHTINGS, plain(5))), [tuple, [str, int, int]])
+        self.assertEqual([type(first_wrong(SIGHTINGS)), type(first_wrong(SIGHTINGS + [(plain(2), 0)]))], [type(None), int])
+        entries = [("deal", "a", plain(4)), ("rule", "r", TWO), ("chain", "c", LINKS)]
+        entries += [("plan", "p", plan_of([OLD], deals=(plain(4),)))]
+        self.assertEqual(type(paper_text(entries)), str)
+        self.assertEqual(kinds(read_paper(paper_text(entries))), kinds(entries))
 
 
 class TestObjects(unittest.TestCase):

@@ -30,14 +30,15 @@ BARRED_NODES = (ast.Global, ast.AsyncFunctionDef, ast.Await, ast.AsyncFor, ast.A
 
 
 def bound_names(tree):
-    """All names that a file gives to something of its own."""
+    """All names that a file gives to something of its own, methods apart."""
+    methods = methods_of(tree)
     found = []
     for node in ast.walk(tree):
         if isinstance(node, ast.Name) and not isinstance(node.ctx, ast.Load):
             found.append(node.id)
         elif isinstance(node, ast.arg):
             found.append(node.arg)
-        elif isinstance(node, (ast.FunctionDef, ast.ClassDef)):
+        elif isinstance(node, (ast.FunctionDef, ast.ClassDef)) and node not in methods:
             found.append(node.name)
     return found
 
@@ -95,12 +96,13 @@ class TestLanguage(unittest.TestCase):
             imported = [
                 alias.name for node in tree.body if isinstance(node, ast.ImportFrom) for alias in node.names
             ]
-            methods = [item.name for item in methods_of(tree) if isinstance(item, ast.FunctionDef)]
             for name in bound_names(tree):
                 self.assertNotIn(name, imported)
                 self.assertNotIn(name, BARRED_NAMES)
-                self.assertFalse(name.startswith("__") and name not in methods, name)
-                self.assertFalse(name in KNOWN_BUILTINS and name not in methods, name)
+                self.assertFalse(name.startswith("__") or name in KNOWN_BUILTINS, name)
+            for item in methods_of(tree):
+                if isinstance(item, ast.FunctionDef):
+                    self.assertNotIn(item.name, BARRED_NAMES)
 
     def test_builtins(self):
         for _, _, tree in each_file():

@@ -3,25 +3,35 @@
 import random
 import time
 import unittest
+from itertools import islice
 from math import gcd
 
 from bymarks.chains import ends, own_marks, ring_share, starved, ways
 from bymarks.classes import is_within, left_out, meet, meet_all
 from bymarks.counts import below, common_share, nth
 from bymarks.deals import form, linear, plain, uses
-from bymarks.errors import InvalidNumber, TooMany
+from bymarks.dealvalues import Deal
+from bymarks.desk import Watch, try_all
+from bymarks.errors import InvalidLine, InvalidNumber, TooMany
 from bymarks.floors import sums
+from bymarks.needless import needless, weakest
 from bymarks.patterns import below_pattern, nth_pattern, pattern_of, patterns
 from bymarks.rules import check_rule, needs, reaches, rule_flow, rule_moved, rule_parting, rule_shares
 from bymarks.runs import agreement, flow, parting, together
+from bymarks.search import deeds, judge, place_patterns, play, verdict, verdicts, wrong_below, wrong_share
+from bymarks.seen import first_wrong, known, told
 from bymarks.sets import (
     check_term, classes_in, term_below, term_has, term_least, term_nth, term_outside, term_parting, term_period,
     term_share,
 )
+from bymarks.texts import paper_text, read_paper
+from bymarks.values import Marks
 from tests.samples import exclusive, fold, fold_flat, term_of_size
 from tests.samples_chains import line_of, tree_of
 from tests.samples_deals import GREAT
 from tests.samples_families import great_family
+from tests.samples_plans import OLD, Store, some_plan
+from tests.samples_rules import rule_of_places
 
 LIMIT = 5
 
@@ -272,6 +282,159 @@ class TestCounts(Timed):
                 self.assertEqual(pattern_of(deals, mark), pattern)
                 further = self.timed(nth_pattern, deals, pattern, 10 ** 301 - 1)
                 self.assertEqual(self.timed(below_pattern, deals, pattern, further), 10 ** 301 - 1)
+
+
+def great_deals(many):
+    """So many deals with great periods and 64 or 36 pieces, multiplied."""
+    if many == 3:
+        return [(GREAT - k, folded(GREAT - k, k)[1][:4]) for k in (0, 1, 3)]
+    return [folded(GREAT - k, k) for k in (0, 7)[:many]]
+
+
+def long_history(chance, plan, mark):
+    """A history of a thousand deeds."""
+    store, history = Store(plan, mark), []
+    while len(history) < 1000:
+        allowed = store.allowed()
+        history.append(chance.choice([deed for deed in allowed if deed != ("next",) or len(allowed) == 1] or allowed))
+        store.do(history[-1])
+    return history
+
+
+class TestPlans(Timed):
+
+    def test_some_plans(self):
+        chance = random.Random(23)
+        for many in (1, 2, 3):
+            deals = great_deals(many)
+            for _ in range(12):
+                plan = some_plan(chance, deals, 2 if many == 3 else 4)
+                for function in (place_patterns, verdict, verdicts, wrong_share):
+                    self.timed(function, plan)
+                self.timed(wrong_below, plan, 10 ** 301 - 1)
+
+    def test_right_plans(self):
+        # Of these plans nearly all states are gone through, for three places or two.
+        slow = [
+            (great_deals(3), ((("renew", 1, 2), ("fill", 2, 1)), (("drop", 1, 2), ("fill", 1, 2))), ((1, 0), (1,)), ((1, 2), (1, 2))),
+            (great_deals(2), ((("fill", 1, 0), ("renew", 1, 0)),) * 4, ((1, 0),) * 4, ((1, 0),) * 4),
+            (great_deals(2), ((("drop", 0, 1), ("fill", 0, 1)),) * 4, ((1, 0),) * 4, ((1, 0),) * 4),
+        ]
+        for deals, moves, puts, looks in slow:
+            phases = tuple((puts[k], looks[k], (), moves[k], "any" if k else "done") for k in range(len(moves)))
+            for lag in (False, True):
+                plan = (tuple(deals), phases, True, lag)
+                self.timed(verdicts, plan)
+                self.timed(verdict, plan)
+
+    def test_histories(self):
+        chance = random.Random(24)
+        for many in (1, 2, 3):
+            plan = some_plan(chance, great_deals(many), 2)
+            history = long_history(chance, plan, 10 ** 301 - 1)
+            for function in (deeds, play, judge):
+                self.timed(function, plan, 10 ** 301 - 1, history)
+
+    def test_needless(self):
+        # Eight items of a right plan with the greatest deals.
+        for graves in (False, True):
+            clears = () if graves else (0,)
+            phase = ((0, 1), (0, 1), clears, (("fill", 0, 1), ("renew", 0, 1)), "done")
+            plan = (tuple(great_deals(3)), (phase, OLD[:2] + (clears, (), "done")), graves, True)
+            right = (tuple(great_deals(3)), ((phase[:2] + (() if graves else (0, 1),) + phase[3:]),), graves, True)
+            for function in (needless, weakest):
+                self.timed(function, right)
+            self.timed(verdict, plan)
+
+
+def sightings_with(many, step):
+    """Twenty sightings with great periods and moduli, of which the first two or three leave many remainders."""
+    found = []
+    for k in range(20):
+        pieces = {0: 6, 1: 4, 2: 4}.get(k, 1) if many else 1
+        # The periods have small divisors in common alone, and these divide all remainders that go to the place.
+        gap = 9 * 5 * 7 * 11 * 13 * 17 * 19
+        found.append(((GREAT - 1 - step - 2 * k, tuple((i * gap, -i * gap) for i in range(pieces))), 0))
+    return found
+
+
+class TestWatching(Timed):
+
+    def test_sightings(self):
+        for many in (False, True):
+            sightings = sightings_with(many, 0)
+            self.timed(known, sightings)
+            self.timed(first_wrong, sightings)
+            self.timed(told, sightings, folded(GREAT, 0))
+
+    def test_watch(self):
+        watch = Watch()
+        begin = time.perf_counter()
+        for k, thing in enumerate("abcdefgh"):
+            watch.enter(thing)
+            for deal, place in sightings_with(True, 1000 * k):
+                watch.see(thing, deal, place)
+        self.assertLess(time.perf_counter() - begin, LIMIT)
+        self.assertEqual(len(watch.remainders("a")[1]), 96)
+        self.timed(watch.unlike)
+        self.timed(watch.shared, "a", "b")
+        self.timed(watch.shared, "h", "h")
+        self.timed(watch.where, "a", folded(GREAT, 0))
+
+    def test_try_all(self):
+        rows = [("block", [("enter", "a"), ("see", "a", plain(GREAT), 5), ("unknown",)]), ("enter", "a"), ("undo",)] * 333
+        self.timed(try_all, Watch(), rows)
+        sightings = [("see", "a") + one for one in sightings_with(True, 0)]
+        self.timed(try_all, Watch(), [("enter", "a")] + (sightings + [("undo",)] * 20) * 20)
+
+
+class TestTexts(Timed):
+
+    def test_many_entries(self):
+        rule = rule_of_places(40)
+        phase = ((0, 1), (1, 0), (0, 1), (("fill", 0, 1), ("renew", 0, 1)), "done")
+        plan = ((plain(GREAT), folded(GREAT - 1, 2)), (phase,) * 4, False, True)
+        chain = {chooser: ("h", 6, ("abcdef", "b", "c", "x", "y", "zzzzzzzz")) for chooser in "abcdef"}
+        letters = "abcdefghijklmnopqrstuvwxyz"
+        names = [one + other for one in letters for other in letters if one + other not in ("if", "or")]
+        entries = [("deal", "a", plan[0][0]), ("deal", "b", plan[0][1])]
+        entries += [(kind, name, value) for name in names[:330] for kind, value in (("rule", rule), ("chain", chain), ("plan", plan))]
+        text = self.timed(paper_text, entries)
+        self.assertEqual(self.timed(read_paper, text), entries)
+
+    def test_long_texts(self):
+        for text in ("x" * 20000, "\n" * 20000, "deal a 4" + " 0+0" * 4900, "chain c\n" + "a h x\n" * 3000, "9" * 20000,
+                     "chain c\n" + "".join(f"{c}{d}{e} h x\n" for c in "abcdefghij" for d in "ghijklmnop" for e in "qrstuvwxyz"),
+                     "rule r split h 9999 " + "place 0 and " * 1660 + "place 0", "rule r " + "split h 1 " * 49 + "place 0",
+                     "rule r " + "split h 37 " * 49 + "place 0 and " * 1600, "deal d 4 0+0\nplan p" + " d" * 9000,
+                     "deal d 4 0+0\nplan p d\n" + "phase any\nput 0\nlook 0\n" * 800 + "end"):
+            with self.assertRaises(InvalidLine) if text.strip() else self.subTest():
+                self.timed(read_paper, text)
+
+
+class TestValues(Timed):
+
+    def test_marks(self):
+        parts = [("class", modulus, modulus // 3) for modulus in coprime_moduli(8, 10 ** 60)]
+        for term in (fold_flat("or", parts), fold_flat("and", parts), fold("or", [("and", parts[k], parts[k + 4]) for k in range(4)])):
+            marks = self.timed(Marks, term)
+            begin = time.perf_counter()
+            self.assertEqual(list(islice(marks.each(), 10))[9], marks[9])
+            self.assertLess(time.perf_counter() - begin, LIMIT)
+            for function in (marks.portion, marks.first, lambda: bool(marks), lambda: marks == ~marks, lambda: ~marks):
+                self.timed(function)
+            self.timed(marks.counted, 10 ** 301 - 1)
+            for other in (parts[0][1:], ~marks, marks):
+                for function in (marks.inside, marks.__and__, marks.__or__, marks.__sub__, marks.__rand__):
+                    self.timed(function, other)
+            self.assertEqual(self.timed(lambda: marks[10 ** 2999]), marks[10 ** 2999])
+        moduli = (2 ** 19, 3 ** 12, 5 ** 8, 7 ** 7, 11 ** 5)
+        self.timed(Marks(fold("or", [("class", modulus, modulus // 7) for modulus in moduli])).least_period)
+
+    def test_deals(self):
+        one, other = [self.timed(Deal, data) for data in great_deals(2)]
+        for function in (lambda: one == other, lambda: one & other, lambda: one ^ other, lambda: one[0], lambda: one >> 5):
+            self.timed(function)
 
 
 if __name__ == "__main__":
