@@ -17,12 +17,12 @@ class Trial:
 
     def __init__(self, watch):
         self.watch = watch
-        self.table = watch.table
-        self.past = watch.past
+        self.table = {}
+        self.past = []
 
     def __enter__(self):
         self.table = self.watch.table
-        self.past = self.watch.past
+        self.past = list(self.watch.past)
         return self.watch
 
     def __exit__(self, kind, value, trace):
@@ -36,17 +36,16 @@ class Watch:
     """Some things, and where they were seen.
 
     The table is a dict from the things to the tuples of their sightings. A table is never changed, but put in
-    the place of another one; past is a tuple of the table ahead of the last deed and the past behind that, or
-    () if no deed is left that could be taken back.
+    the place of another one; past is the list of the tables ahead of the deeds that can be taken back.
     """
 
     def __init__(self):
         self.table = {}
-        self.past = ()
+        self.past = []
 
     def _put_table(self, table):
         """Make this the table, so that the deed can be taken back."""
-        self.past = (self.table, self.past)
+        self.past.append(self.table)
         self.table = table
 
     def _check_watched(self, thing):
@@ -89,7 +88,7 @@ class Watch:
         """Take back the last of the deeds that has not been taken back."""
         if not self.past:
             raise NothingToUndo("no deed is left to be taken back")
-        self.table, self.past = self.past
+        self.table = self.past.pop()
 
     def trial(self):
         """Return a block for a with statement: if an error leaves it, the watch is as it was when it began."""

@@ -1,19 +1,20 @@
 """Hunts for the shortest history with a wrong read, for the things of one pattern."""
 
-from bymarks.stores import deeds_behind, first_state, is_wrong, since_read, state_after
+from bymarks.stores import deeds_behind, finished_writes, first_state, is_wrong, since_read, state_after
 
 
 def renumbered(state):
     """Return the state with its writes numbered anew from 1 on, in their order, as far as they still matter.
 
-    What can happen behind a state, and which reads are wrong then, depends only on the order of the writes
-    of which places hold something, of the one since which a read is right, and of the youngest one; and on
-    whether a take is fit. So states that are equal now need to be looked at once.
+    What can happen behind a state, and which reads are wrong then, depends only on the order of the writes of
+    which places hold something, of the one since which a read is right, of the youngest one that is finished,
+    and of the youngest one; and on a take that is fit. So states that are equal now need to be looked at once.
     """
     stage, cells, write, read, writes, take = state
     since = since_read(state)
     fit = [take] if take >= since else []
-    numbers = sorted(set([content // 2 for content in cells if content > 0] + [since, writes] + fit))
+    held = [content // 2 for content in cells if content > 0]
+    numbers = sorted(set(held + [since, finished_writes(state), writes] + fit))
     ranks = {number: k for k, number in enumerate(numbers, start=1)}
     kept = tuple([2 * ranks[content // 2] + content % 2 if content > 0 else 0 for content in cells])
     if read is not None:

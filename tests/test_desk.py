@@ -136,12 +136,12 @@ def some_entry(chance, depth=2):
 class TestWatch(unittest.TestCase):
 
     def assert_refused(self, watch, error, deed, *arguments):
-        before, last = shown(watch), copy.copy(watch)
+        before, last = shown(watch), copy.deepcopy(watch)
         with self.assertRaises(error):
             getattr(watch, deed)(*arguments)
         self.assertEqual(shown(watch), before)
         # Nothing more and nothing less can be taken back either.
-        self.assertEqual(all_shown(copy.copy(watch)), all_shown(last))
+        self.assertEqual(all_shown(copy.deepcopy(watch)), all_shown(last))
 
     def test_at_first(self):
         watch = Watch()
@@ -349,7 +349,7 @@ class TestUndo(unittest.TestCase):
     def test_errors_leave_blocks(self):
         for error in (MarkError, TooMany, ValueError, KeyError, ZeroDivisionError, KeyboardInterrupt, GeneratorExit):
             watch = watch_of(a=[(PLAIN, 1)], b=[])
-            before = all_shown(copy.copy(watch))
+            before = all_shown(copy.deepcopy(watch))
             with self.assertRaises(error):
                 with watch.trial() as same:
                     same.undo()
@@ -376,7 +376,7 @@ class TestUndo(unittest.TestCase):
 
     def test_blocks_in_blocks(self):
         watch = watch_of(a=[(PLAIN, 1)])
-        before = all_shown(copy.copy(watch))
+        before = all_shown(copy.deepcopy(watch))
         with watch.trial():
             watch.enter("b")
             with self.assertRaises(KeyError):
@@ -388,7 +388,7 @@ class TestUndo(unittest.TestCase):
             self.assertEqual(watch.things(), ["a", "b"])
             watch.enter("d")
         self.assertEqual(watch.things(), ["a", "b", "d"])
-        self.assertEqual(all_shown(copy.copy(watch))[2:], before)
+        self.assertEqual(all_shown(copy.deepcopy(watch))[2:], before)
         with self.assertRaises(KeyError):
             with watch.trial():
                 with watch.trial():
@@ -423,7 +423,7 @@ class TestTryAll(unittest.TestCase):
 
     def test_refused(self):
         watch = watch_of(a=[(PLAIN, 1)])
-        before = all_shown(copy.copy(watch))
+        before = all_shown(copy.deepcopy(watch))
         for deed, error in [
             (("enter", "a"), KnownThing), (("enter", 1), InvalidName), (("see", "c", PLAIN, 1), UnknownThing),
             (("see", "a", [], 1), InvalidDeal), (("see", "a", PLAIN, -1), InvalidPlace), (("see", "a", PLAIN, 2), CannotBe),
@@ -432,7 +432,7 @@ class TestTryAll(unittest.TestCase):
             for ahead in ([], [("enter", "b")], [("undo",)] * 2 + [("enter", "a"), ("see", "a", PLAIN, 1)]):
                 with self.assertRaises(error):
                     try_all(watch, ahead + [deed, ("enter", "d")])
-                self.assertEqual(all_shown(copy.copy(watch)), before)
+                self.assertEqual(all_shown(copy.deepcopy(watch)), before)
         with self.assertRaises(NothingToUndo):
             try_all(watch, [("undo",)] * 3)
         self.assertEqual(all_shown(watch), before)

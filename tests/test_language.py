@@ -132,6 +132,24 @@ class TestLanguage(unittest.TestCase):
                     self.assertIsInstance(node.right, ast.Constant)
                     self.assertTrue(0 <= node.right.value <= 64)
 
+    def test_operators(self):
+        # What the rules ask of a whole package in which classes have operators.
+        for _, text, tree in each_file():
+            self.assertIsNone(re.search(r"[(]type[)]|Meta|metaclass=", text))
+            for node in ast.walk(tree):
+                self.assertNotIsInstance(node, (ast.GeneratorExp, ast.Lambda))
+                if isinstance(node, ast.Attribute):
+                    self.assertNotIn(node.attr, ("sort", "keys"))
+            for item in methods_of(tree):
+                if isinstance(item, ast.FunctionDef) and item.name.startswith("__") and item.name not in ("__init__", "__exit__"):
+                    self.assertLessEqual(len(item.args.args), 2)
+                    self.assertEqual((item.args.defaults, item.args.vararg, item.args.kwarg), ([], None, None))
+            for node in tree.body:
+                if isinstance(node, ast.ClassDef):
+                    names = [item.name for item in node.body if isinstance(item, ast.FunctionDef)]
+                    self.assertEqual("__getitem__" in names, "__iter__" in names)
+                    self.assertEqual(len(names), len(set(names)))
+
     def test_docstrings(self):
         for _, _, tree in each_file():
             for node in [tree] + [node for node in tree.body if isinstance(node, (ast.FunctionDef, ast.ClassDef))]:
