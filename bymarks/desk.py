@@ -104,8 +104,6 @@ class Watch:
 
     def shared(self, one, other):
         """Return the least mark that both things can have, or None."""
-        self._check_watched(one)
-        self._check_watched(other)
         return least_common_mark(self.remainders(one), self.remainders(other))
 
     def unlike(self):

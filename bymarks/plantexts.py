@@ -1,7 +1,7 @@
 """The lines of plans."""
 
 from bymarks.plans import ENDS, MOVES, is_plan
-from bymarks.textlines import need, need_names, need_new_name, numbers_behind
+from bymarks.textlines import need, need_new_name, numbers_behind
 
 
 def line_of_numbers(word, numbers):
@@ -61,7 +61,6 @@ def plan_from(lines, at, known):
     names = line[1][2:]
     need(len(names) > 0, line, "line")
     need_new_name(line, "plan", known)
-    need_names(line, names)
     need(all([("deal", name) in known for name in names]), line, "name")
     at = at + 1
     graves = lines[at][1] == ["graves"]

@@ -240,6 +240,7 @@ def wrong_plans():
         found += [(tuple(deal_of_pieces(many) for many in sizes), (OLD,), False, False)]
     found += [((deal_of_pieces(6), deal_of_pieces(6), plain(3), plain(3)), (OLD,), False, False)]
     found += [(deals, (), False, False), (deals, (OLD,) * 5, False, False), (deals + (plain(9),), (OLD,) * 3, False, False)]
+    found += [(deals + (plain(9),), (OLD[:k] + ((0, 2, 1),) + OLD[k + 1:],), False, False) for k in (0, 1)]
     for wrong in (None, 0, 1, "", "True", (), [True]):
         found += [right[:2] + (wrong, False), right[:2] + (False, wrong)]
     return found + [(deals, (OLD, phase, NEW), graves, False) for graves, phase in wrong_phases()]

@@ -263,6 +263,8 @@ def wrong_entries():
     found += [(right,), {right: 1}, right, [right[:2]], [right + (1,)], [list(right)], [(right,)], [nested(100)]]
     found += [[("Deal", "a", PLAIN)], [("rule", "a", PLAIN)], [("chain", "a", PLAIN)], [("plan", "a", PLAIN)]]
     found += [[("deals", "a", PLAIN)], [("", "a", PLAIN)], [(None, "a", PLAIN)], [(("deal",), "a", PLAIN)], [([], "a", PLAIN)]]
+    alone = ((PLAIN,), (((0,), (0,), (0,), (), "any"),), False, False)
+    found += [[right, (kind, "b", alone)] for kind in ("deal", "rule", "chain", "plans", "Plan", "", None)]
     found += [[("deal", name, PLAIN)] for name in wrong_names()]
     found += [[right, ("deal", name, PLAIN)] for name in wrong_names()[::5]]
     for kind, wrongs in (("deal", wrong_deals()), ("rule", wrong_rules()), ("chain", wrong_chains()), ("plan", wrong_plans())):

@@ -159,9 +159,13 @@ class TestErrors(unittest.TestCase):
         # Of five even remainders and an odd one, and of three even and two odd ones, 17 pairs have marks: 6 * 17 is 102.
         pairs = [sighting(202, (0, 2, 4, 6, 8, 9)), sighting(206, (0, 2, 4, 5, 7))]
         self.assertEqual(len(known(pairs + [sighting(107, five)])[1]), 85)
+        just = [sighting(404, (0, 23, 26, 34, 36)), sighting(206, (0, 4, 24, 26, 34, 39)), sighting(214, (0, 4, 5, 8, 20, 32))]
+        self.assertEqual(sum((r - s) % 2 == 0 and (r - t) % 2 == 0 for r in (0, 23, 26, 34, 36)
+                             for s in (0, 4, 24, 26, 34, 39) for t in (0, 4, 5, 8, 20, 32)), 101)
         for function in (known, first_wrong):
-            with self.assertRaises(TooMany):
-                function(pairs + [sighting(107, six)])
+            for sightings in (pairs + [sighting(107, six)], just):
+                with self.assertRaises(TooMany):
+                    function(sightings)
 
 
 if __name__ == "__main__":

@@ -6,18 +6,21 @@ import unittest
 from itertools import islice
 from math import gcd
 
-from bymarks.chains import ends, own_marks, ring_share, starved, ways
-from bymarks.classes import is_within, left_out, meet, meet_all
+from bymarks.chains import check_chain, ends, own_marks, ring_share, starved, walk, ways
+from bymarks.classes import check_class, is_within, left_out, meet, meet_all
 from bymarks.counts import below, common_share, nth
-from bymarks.deals import form, linear, plain, uses
+from bymarks.deals import check_deal, form, linear, place_of, plain, split, uses
 from bymarks.dealvalues import Deal
 from bymarks.desk import Watch, try_all
 from bymarks.errors import InvalidLine, InvalidNumber, TooMany
 from bymarks.floors import sums
-from bymarks.needless import needless, weakest
+from bymarks.needless import needless, weakest, without
 from bymarks.patterns import below_pattern, nth_pattern, pattern_of, patterns
-from bymarks.rules import check_rule, needs, reaches, rule_flow, rule_moved, rule_parting, rule_shares
-from bymarks.runs import agreement, flow, parting, together
+from bymarks.plans import check_plan
+from bymarks.rules import (
+    check_rule, names_in, needs, place_by, reaches, rule_flow, rule_moved, rule_parting, rule_shares,
+)
+from bymarks.runs import agreement, flow, parting, share, together
 from bymarks.search import deeds, judge, place_patterns, play, verdict, verdicts, wrong_below, wrong_share
 from bymarks.seen import first_wrong, known, told
 from bymarks.sets import (
@@ -386,6 +389,35 @@ class TestWatching(Timed):
         self.timed(try_all, Watch(), rows)
         sightings = [("see", "a") + one for one in sightings_with(True, 0)]
         self.timed(try_all, Watch(), [("enter", "a")] + (sightings + [("undo",)] * 20) * 20)
+
+
+    def test_merge(self):
+        watch = Watch()
+        for thing, part in (("a", slice(0, 10)), ("b", slice(10, 20))):
+            watch.enter(thing)
+            for deal, place in sightings_with(True, 0)[part]:
+                watch.see(thing, deal, place)
+        self.timed(watch.merge, "a", "b")
+        self.assertEqual(len(watch.remainders("a")[1]), 96)
+        for function in (watch.things, watch.undo, lambda: len(watch), lambda: "b" in watch, lambda: watch["b"]):
+            self.timed(function)
+
+
+class TestShortCalls(Timed):
+
+    def test_checks(self):
+        great = 10 ** 301 - 1
+        rule, deals = rule_of_places(40), great_deals(3)
+        chain = {chooser: ("h", 6, tuple("bcdefa")) for chooser in "abcdef"}
+        phase = ((0, 1), (2, 1), (0, 1, 2), (("drop", 2, 0), ("fill", 2, 0)), "done")
+        plan = (tuple(deals), (phase, phase), False, True)
+        for function, *arguments in [
+            (check_class, (great, great - 1)), (check_rule, rule), (names_in, rule), (place_by, rule, {"h": great}),
+            (check_chain, chain), (walk, chain, "a", {"h": great}), (check_deal, deals[0]), (place_of, deals[0], great),
+            (plain, GREAT), (split, GREAT // 2, GREAT // 2 - 1), (share, deals[0], great), (check_plan, plan),
+            (without, plan, ("move", 1, 1)), (below, [great_family(random.Random(25), 10 ** 60, 64)], great),
+        ]:
+            self.timed(function, *arguments)
 
 
 class TestTexts(Timed):
